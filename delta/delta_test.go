@@ -71,6 +71,8 @@ func TestApply(t *testing.T) { // P602
 		{row(3, 1, byte(9)), api.ErrArg, ""},
 		{row(4, 1, one, 0, 1)[:16], api.ErrCut, ""},
 		{row(4, 1, one), api.ErrCut, ""},
+		{row(4, 1, one, 9, 1)[:16], api.ErrCut, ""},
+		{row(4, 1, one, 9), api.ErrCut, ""},
 		{row(4, 1, two), api.ErrCut, ""},
 		{row(4, 1, two, 0)[:12], api.ErrCut, ""},
 		{row(4, 1, two, 2, "x"), api.ErrCut, ""},
@@ -95,6 +97,26 @@ func TestApply(t *testing.T) { // P602
 		got, e := delta.Apply([]byte(base), x.delta)
 		if e != x.want || string(got) != x.target || e != api.OK && got != nil {
 			t.Errorf("%d: %q, %v, not %q, %v", k, got, e, x.target, x.want)
+		}
+	}
+}
+
+// Numbers have four bytes.
+func TestManyBytes(t *testing.T) { // P601, P602
+	for _, n := range []int{300, 70000, 1<<24 + 300} {
+		base := bytes.Repeat([]byte("x"), n)
+		target := append(append(bytes.Clone(base), "y"...), base...)
+		d := delta.Make(base, target)
+		want := row(n, 2*n+1, one, 0, n, two, n+1, "y"+string(base))
+		if !bytes.Equal(d, want) {
+			t.Errorf("Make of %d bytes: %d bytes, not %d", n, len(d), len(want))
+		}
+		if got, e := delta.Apply(base, d); e != api.OK || !bytes.Equal(got, target) {
+			t.Errorf("Apply of %d bytes: %v", n, e)
+		}
+		back := delta.Make(target, base[1:])
+		if got, e := delta.Apply(target, append(back[:8:8], row(one, n+2, n-1)...)); e != api.OK || !bytes.Equal(got, base[1:]) {
+			t.Errorf("Apply of %d bytes: %v", n, e)
 		}
 	}
 }

@@ -283,11 +283,8 @@ func TestNothingIsShared(t *testing.T) { // P2
 	l, _ := merge3.Chunks(base, ours, theirs)
 	want := fmt.Sprint(told(l))
 	for k := range l {
-		l[k].Base = append(l[k].Base, "!", "!", "!")
-		l[k].Ours = append(l[k].Ours, "?", "?", "?")
-		l[k].Theirs = append(l[k].Theirs, ".", ".", ".")
 		for _, side := range [][]string{l[k].Base, l[k].Ours, l[k].Theirs} {
-			clear(side)
+			clear(side[:cap(side)])
 		}
 	}
 	if again, _ := merge3.Chunks(base, ours, theirs); told(again) != want {

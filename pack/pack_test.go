@@ -24,11 +24,19 @@ func id(o api.Obj) api.Id {
 }
 
 func sorted(l []api.Obj) []api.Obj {
-	l = slices.Clone(l)
-	slices.SortFunc(l, func(a, b api.Obj) int {
-		i, j := id(a), id(b)
-		return bytes.Compare(i[:], j[:])
-	})
+	type named struct {
+		id api.Id
+		o  api.Obj
+	}
+	var names []named
+	for _, o := range l {
+		names = append(names, named{id(o), o})
+	}
+	slices.SortFunc(names, func(a, b named) int { return bytes.Compare(a.id[:], b.id[:]) })
+	l = nil
+	for _, x := range names {
+		l = append(l, x.o)
+	}
 	return l
 }
 
@@ -62,17 +70,20 @@ func entriesOf(l []api.Obj) []entry {
 func write(l []api.Obj, entries []entry) []byte {
 	num := binary.BigEndian.AppendUint32
 	b := num([]byte("SLVGPAK1"), uint32(len(l)))
+	var ids []api.Id
+	for _, o := range l {
+		ids = append(ids, id(o))
+	}
 	for first := range 256 {
 		n := 0
-		for _, o := range l {
-			if int(id(o)[0]) <= first {
+		for _, i := range ids {
+			if int(i[0]) <= first {
 				n++
 			}
 		}
 		b = num(b, uint32(n))
 	}
-	for _, o := range l {
-		i := id(o)
+	for _, i := range ids {
 		b = append(b, i[:]...)
 	}
 	at := len(b) + 4*len(l)
@@ -180,7 +191,7 @@ func TestBuildRefuses(t *testing.T) { // P701
 
 func TestParseIdsFind(t *testing.T) { // P702, P703
 	r := rand.New(rand.NewSource(8))
-	for _, n := range []int{0, 1, 100} {
+	for _, n := range []int{0, 1, 300} {
 		l := sorted(some(n))
 		b := build(t, l...)
 		for range 5 {
@@ -210,6 +221,33 @@ func TestParseIdsFind(t *testing.T) { // P702, P703
 			if o, e := pack.Find(b, i); e != api.ErrNone || o.Kind != 0 || o.Body != nil {
 				t.Errorf("Find of what is not there: %v", e)
 			}
+		}
+	}
+}
+
+// The greatest blobs, and a pack of many bytes.
+func TestManyBytes(t *testing.T) { // P701, P702
+	r := rand.New(rand.NewSource(10))
+	same1 := make([]byte, api.MaxBlob)
+	r.Read(same1)
+	var l []api.Obj
+	for k := range 260 {
+		b := bytes.Clone(same1)
+		if k < 258 {
+			r.Read(b)
+		} else {
+			b[k] ^= 1
+		}
+		l = append(l, api.Obj{Kind: api.OBlob, Body: b})
+	}
+	for _, x := range [][]api.Obj{l, l[258:], {l[0], blob(string(l[0].Body[:65535]))}} {
+		x = sorted(x)
+		b := build(t, x...)
+		if !bytes.Equal(b, write(x, entriesOf(x))) {
+			t.Errorf("%d blobs", len(x))
+		}
+		if got, e := pack.Parse(b); e != api.OK || !slices.EqualFunc(got, x, same) {
+			t.Errorf("%d blobs: Parse: %v", len(x), e)
 		}
 	}
 }

@@ -121,6 +121,8 @@ func mayNotBe() []api.Hunk {
 		func(h *api.Hunk) { h.Edits = edits(keep, 1, del, 1, del, 1, keep, 1) },
 		func(h *api.Hunk) { h.Edits = edits(keep, 1, keep, 1, del, 1, keep, 1) },
 		func(h *api.Hunk) { h.Edits[3].N = 2 },
+		func(h *api.Hunk) { h.Edits = edits(keep, 1, del, 0, ins, 2, keep, 1) },
+		func(h *api.Hunk) { h.Edits = edits(keep, 5, del, -1) },
 		func(h *api.Hunk) { h.Lines = h.Lines[:3] },
 		func(h *api.Hunk) { h.Lines = append(h.Lines, "d\n") },
 		func(h *api.Hunk) { h.Lines[2] = "" },
@@ -223,6 +225,7 @@ func TestApply(t *testing.T) { // P1303
 		{[]api.Hunk{hunk(0, 0, "-a"), hunk(1, 1, "-b")}, api.ErrPatch, ""},
 		{[]api.Hunk{hunk(1, 1, " c-b")}, api.ErrPatch, ""},
 		{[]api.Hunk{hunk(5, 5, "-f-g")}, api.ErrPatch, ""},
+		{[]api.Hunk{hunk(5, 5, " f-g")}, api.ErrPatch, ""},
 		{[]api.Hunk{hunk(7, 7, "+x")}, api.ErrPatch, ""},
 		{[]api.Hunk{hunk(999999999, 999999999, "+x")}, api.ErrPatch, ""},
 	} {

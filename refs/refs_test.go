@@ -314,6 +314,19 @@ func TestSame(t *testing.T) { // P1002
 	}
 }
 
+// States and transactions that may not be end all the same.
+func TestWhatMayNotBe(t *testing.T) { // P1, P8
+	odd := api.State{Logs: []api.Log{{Name: "x", Lines: make([]api.Line, 3)}, {}}, Refs: []api.Ref{{Name: "a"}, {Name: "a", Id: id(1)}, {}}, Mem: make([]api.Memory, 2), Seq: api.Seq{Done: -1}}
+	for _, tx := range []api.Tx{{}, moves(move("", 0, 0)), moves(move("x", 5, 0), move("x", 7, 8), move("/", 1, 1)), {HasSeq: true, Seq: api.Seq{Kind: -4, Done: 9}}, {Mem: make([]api.Memory, 3)}} {
+		refs.Check(odd, tx)
+		refs.Apply(odd, tx)
+		refs.Apply(api.State{}, tx)
+	}
+	if !refs.Same(odd, odd) {
+		t.Error("it is not the same as itself")
+	}
+}
+
 func disk() *simfs.FS {
 	f, _ := simfs.New(1<<24, 1<<24)
 	return f

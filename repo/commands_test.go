@@ -344,7 +344,7 @@ func TestMemory(t *testing.T) { // P2102
 	if len(mem) != 1 || string(mem[0].Data) != "a\nZ\nc\n" {
 		t.Fatal(mem)
 	}
-	// the same conflict, from the other side, in a file that is one to be run
+	// the same conflict, from the other side
 	b.switchTo("b")
 	b.ok(api.Cmd{Kind: api.CBranch, Name: "again", At: b.read(b.at("main")).Parents[0]})
 	b.no(api.ErrArg, merge("again", "c=other"))
@@ -410,22 +410,157 @@ func TestMemoryIsFull(t *testing.T) { // P2102: as long as the memory has room
 	if n := len(b.r.State().Mem); n != 499 {
 		t.Fatal(n)
 	}
+	last := func() string { // what was made of the conflict that took the last place
+		for _, m := range b.r.State().Mem {
+			if m.Data[len(m.Data)-2] != 'Z' {
+				return strings.ReplaceAll(string(m.Data), "\n", "")
+			}
+		}
+		return ""
+	}
 	base := b.commit("g=1")
 	b.ok(api.Cmd{Kind: api.CBranch, Name: "c", At: base})
-	b.commit("g=1X h=2X i=2X")
+	b.commit("g=1 h=2X i=2X j=1X k=3")
 	b.switchTo("c")
-	b.commit("g=1Y h=2Y i=2Y")
-	b.clash("g:1 h:1 i:1", merge("main", ""))
-	b.ok(merge("main", "g=1Z h=2Z i=2W"))
-	if n := len(b.r.State().Mem); n != 500 {
-		t.Fatal(n)
+	theirs := b.commit("g=1 h=2Y i=2Y j=1Y k*=4")
+	b.clash("h:1 i:1 j:1 k:1 k:3", merge("main", ""))
+	b.ok(merge("main", "h=2V i=2W j=1U k=5")) // one place, for both that are alike
+	if n := len(b.r.State().Mem); n != 500 || last() != "2W" {
+		t.Fatal(n, last())
 	}
-	b.ok(api.Cmd{Kind: api.CReset, Old: b.at("c"), At: b.read(b.at("c")).Parents[0]})
-	b.clash("h:1 i:1", merge("main", "")) // g is known, h and i, which are alike, are not
-	b.ok(merge("main", "h=2Q i=2Q"))
-	if n := len(b.r.State().Mem); n != 500 {
-		t.Fatal(n)
+	b.ok(api.Cmd{Kind: api.CReset, Old: b.at("c"), At: theirs})
+	b.clash("j:1 k:1 k:3", merge("main", ""))
+	b.ok(merge("main", "j=1Q k=6"))
+	if n := len(b.r.State().Mem); n != 500 || last() != "2W" {
+		t.Fatal(n, last())
 	}
+	// known ones that do not resolve themselves are learned anew
+	b.ok(api.Cmd{Kind: api.CReset, Old: b.at("c"), At: base})
+	b.commit("g=1 h*=2Y")
+	b.clash("h:1 h:3", merge("main", ""))
+	b.ok(merge("main", "h=2S"))
+	if n := len(b.r.State().Mem); n != 500 || last() != "2S" {
+		t.Fatal(n, last())
+	}
+}
+
+// Just clashes of contents, and just what files made of them, are learned.
+func TestWhatIsNotLearned(t *testing.T) { // P2102
+	for k, x := range []api.File{{Path: "c", Kind: api.KLink, Data: []byte("x")}, {Path: "c"}} {
+		b := forked(t, "c=abc d=1", "c=aXc d=1", "c=aYc d=1")
+		c := merge("b", "")
+		c.Files = []api.File{x}
+		b.ok(c)
+		if m := b.r.State().Mem; len(m) != 0 {
+			t.Errorf("%d: %v", k, m)
+		}
+		if got := b.tree(b.at("main")); k == 1 && got != "d=1" { // what is behind it stays
+			t.Error(got)
+		}
+	}
+	marks := "<<<<<<<\nb\n|||||||\na\n=======\nc\n>>>>>>>\n"
+	with := func(kind int, l ...string) *box { // base, ours, theirs, each a file or none
+		b := newBox(t)
+		c := func(k int) {
+			x := api.Cmd{Kind: api.CCommit, Files: []api.File{{Path: "z", Kind: 1, Data: []byte{byte('0' + k)}}}}
+			if l[k] != "" {
+				x.Files = append([]api.File{{Path: "c", Kind: kind, Data: []byte(l[k])}}, x.Files...)
+			}
+			b.ok(x)
+		}
+		c(0)
+		b.branch("b")
+		b.switchTo("b")
+		c(2)
+		b.switchTo("main")
+		c(1)
+		return b
+	}
+	b := with(api.KLink, "1", marks, "2")
+	b.ok(merge("b", "c=1 z=1"))
+	if m := b.r.State().Mem; len(m) != 1 { // z's alone
+		t.Error(m)
+	}
+	b = with(api.KFile, marks, "", marks+"more\n")
+	b.clash("c:2 z:1", merge("b", ""))
+	b.ok(merge("b", "c=1 z=1"))
+	if m := b.r.State().Mem; len(m) != 1 || len(b.r.State().Refs) != 2 {
+		t.Error(m)
+	}
+}
+
+// A file that clashes may have gone to another place; then nothing stands where it clashes.
+func TestAClashWhereNothingStands(t *testing.T) { // P2102
+	b := forked(t, "a=vwxyz", "q=1wxyz", "a=2wxyz q/k=7")
+	b.clash("q:1 q:6", merge("b", ""))
+	b.no(api.ErrDir, merge("b", "q=9"))
+	c := merge("b", "")
+	c.Files = []api.File{{Path: "q"}}
+	b.ok(c)
+	if got := b.tree(b.at("main")); !strings.HasPrefix(got, "q/k=7 q~=<<<<<<<1") || len(b.r.State().Mem) != 0 {
+		t.Error(got)
+	}
+}
+
+func TestTheLongestResolution(t *testing.T) { // P2102
+	b := forked(t, "c=abc", "c=aXc", "c=aYc")
+	c := merge("b", "c=1")
+	c.Files[0].Data = make([]byte, api.MaxBlob)
+	b.ok(c)
+}
+
+// chain puts n commits, one of the other, and tells the youngest.
+func (b *box) chain(n int, author string) api.Id {
+	b.t.Helper()
+	s, _ := store.Open(b.f)
+	tree, _ := s.Put(api.Obj{Kind: api.OTree})
+	c := api.Commit{Tree: tree, Author: author}
+	for range n {
+		body, _ := codec.EncodeCommit(c)
+		i, e := s.Put(api.Obj{Kind: api.OCommit, Body: body})
+		if e != api.OK {
+			b.t.Fatal(e)
+		}
+		c.Parents = []api.Id{i}
+	}
+	return c.Parents[0]
+}
+
+// What histories answer is answered where a row asks it.
+func TestErrorsOfHistories(t *testing.T) { // P2102
+	b := newBox(t)
+	b.ok(api.Cmd{Kind: api.CBranch, Name: "long", At: b.chain(5001, "a")})
+	b.no(api.ErrNone, merge("none", "x=y"))
+	b.commit("a=1")
+	b.no(api.ErrMany, merge("long", ""))
+	b.no(api.ErrMany, api.Cmd{Kind: api.CRebase, At: b.at("long")})
+	b.ok(api.Cmd{Kind: api.CCollect})
+	b.whole()
+
+	b = forked(t, "a=1", "b=1", "c=1")
+	b.commit("b=2")
+	middle := b.read(b.at("main")).Parents[0]
+	b.switchTo("b")
+	b.f.Write(loose.Path(middle), []byte("x"))
+	b.no(api.ErrSum, merge("main", ""))
+	b.no(api.ErrSum, api.Cmd{Kind: api.CRebase, At: b.at("main")})
+	b.no(api.ErrSum, api.Cmd{Kind: api.CPick, Todo: todo(1, middle)})
+	b = forked(t, "a=1", "b=1", "c=1")
+	b.f.Write(loose.Path(b.read(b.at("b")).Tree), []byte("x"))
+	b.no(api.ErrSum, merge("b", ""))
+	b.f.Write(loose.Path(b.at("main")), []byte("x"))
+	b.no(api.ErrSum, commit("n=1"))
+	b.no(api.ErrSum, api.Cmd{Kind: api.CBranch, Name: "n"})
+	b.f.Stop(1)
+	b.f.SyncDir("")
+	b.no(api.ErrNone, merge("none", ""))
+	b.no(api.ErrNone, api.Cmd{Kind: api.CSwitch, Name: "none"})
+	b.no(api.ErrDead, commit("n=1"))
+	b.no(api.ErrDead, api.Cmd{Kind: api.CBranch, Name: "n"})
+	e := newBox(t)
+	e.f.Stop(1)
+	e.f.SyncDir("")
+	e.no(api.ErrNone, api.Cmd{Kind: api.CBranch, Name: "n"})
 }
 
 // Two conflicts that are alike take one place of the memory; the last one by paths stays.

@@ -7,6 +7,7 @@ import (
 	"selvage/api"
 	"selvage/loose"
 	"selvage/refs"
+	"selvage/repo"
 	"selvage/simfs"
 )
 
@@ -122,6 +123,13 @@ func TestRepackAndRecover(t *testing.T) { // P2102, T3
 	if a := b.ok(api.Cmd{Kind: api.CRecover}); a.N != 7 || !slices.Contains(b.objects(), other) {
 		t.Error(a)
 	}
+	r, _ := repo.Open(b.f)
+	r.Do(commit("by=another"))
+	r.Do(api.Cmd{Kind: api.CRepack})
+	b.ok(api.Cmd{Kind: api.CRecover})
+	if !refs.Same(r.State(), b.r.State()) || b.tree(b.at("main")) != "by=another" {
+		t.Error("the state is not read again")
+	}
 	b.f.Write("p/0000000000000000000000000000000000000000000000000000000000000000", nil)
 	b.no(api.ErrSum, api.Cmd{Kind: api.CRecover})
 	b.commit("a=3")
@@ -144,6 +152,23 @@ func TestRecoverBehindACrash(t *testing.T) { // P2102, T2
 		t.Error("another state")
 	}
 	b.commit("a=2")
+	b.whole()
+}
+
+// A tree for which there is no room lets no commit stand.
+func TestATreeWithoutRoom(t *testing.T) { // P2102
+	f, _ := simfs.New(3000, 1<<20)
+	b := &box{t: t, f: f}
+	b.open()
+	b.ok(api.Cmd{Kind: api.CInit, Name: "main"})
+	for _, most := range []api.Errno{api.ErrFull, api.ErrFull} {
+		c := commit("a=1")
+		c.Files[0].Data = make([]byte, 4000)
+		if a := b.r.Do(c); a.Err != most || b.at("main") != none {
+			t.Error(a)
+		}
+	}
+	b.commit("a=1")
 	b.whole()
 }
 

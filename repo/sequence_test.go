@@ -7,6 +7,7 @@ import (
 	"testing"
 
 	"selvage/api"
+	"selvage/loose"
 	"selvage/refs"
 )
 
@@ -177,6 +178,8 @@ func TestRebase(t *testing.T) { // P2102
 	b.no(api.ErrKind, api.Cmd{Kind: api.CRebase, At: b.read(h).Tree})
 	b.no(api.ErrKind, api.Cmd{Kind: api.CRebase, At: onto, Todo: todo(9, none)})
 	b.no(api.ErrSame, api.Cmd{Kind: api.CRebase, At: h})
+	b.no(api.ErrNone, api.Cmd{Kind: api.CRebase, At: onto, Todo: todo(1, l[0], 1, api.Id{1})})
+	b.no(api.ErrKind, api.Cmd{Kind: api.CRebase, At: onto, Todo: todo(1, b.read(h).Tree)})
 	b.ends(api.Cmd{Kind: api.CRebase, At: onto}, 2)
 	b.stands("f=XbcdeY g=1", b.read(b.at("b")).Parents...)
 	if p := b.read(b.at("b")).Parents[0]; b.tree(p) != "f=XbcdeY" || b.read(p).Parents[0] != onto {
@@ -411,4 +414,70 @@ func TestOtherErrorsOfSteps(t *testing.T) { // P2102
 		t.Error(a)
 	}
 	b.ends(api.Cmd{Kind: api.CSkip}, 2)
+}
+
+// What cannot be read ends a step, and the command that asks for it.
+func TestStepsThatCannotBeRead(t *testing.T) { // P2102
+	for k := range 4 {
+		b, l := rows(t, "f=abc", "f=aXc", "f=abc g=1", "f=abc g=1 h=1")
+		cur := b.at("main")
+		b.ok(api.Cmd{Kind: api.CReset, Old: cur, At: l[1]})
+		b.ok(api.Cmd{Kind: api.CReset, Old: l[1], At: cur})
+		broken := []api.Id{l[0], l[1], cur, l[0]}[k]
+		b.f.Write(loose.Path(b.read(broken).Tree), []byte("x"))
+		if k == 3 {
+			c := b.read(l[0])
+			b.f.Write(loose.Path(c.Tree), []byte("y"))
+		}
+		a := b.r.Do(pick(2, l[0], 1, l[1]))
+		s := b.r.State().Seq
+		if a.Err != api.ErrSum || a.Id != s.Cur || a.Id != cur || a.N != 1 || s.Done != 1 || s.Stopped {
+			t.Errorf("%d: %+v, %+v", k, a, s)
+		}
+	}
+	b, l := stopped(t)
+	b.f.Write(loose.Path(b.read(l[1]).Tree), []byte("x"))
+	b.no(api.ErrSum, resolved("f=aZc"))
+	b, _ = stopped(t)
+	b.f.Write(loose.Path(b.read(b.at("main")).Tree), []byte("x"))
+	b.no(api.ErrSum, resolved("f=aZc"))
+}
+
+// While the disk has stopped a step tells how far the command came; the one that a sequence stopped at tells nothing.
+func TestStepsOnAStoppedDisk(t *testing.T) { // P2102
+	b, l := rows(t, "f=abc", "f=aXc", "f=abc g=1", "f=abc g=1 h=1")
+	cur := b.at("main")
+	b.f.Stop(9)
+	if a := b.r.Do(pick(2, l[0], 2, l[1])); a.Err != api.ErrDead || a.Id != cur || a.N != 1 {
+		t.Error(a)
+	}
+	for _, c := range []api.Cmd{{Kind: api.CSkip}, resolved("f=aZc"), {Kind: api.CAbort}} {
+		b, _ = stopped(t)
+		b.f.Stop(1)
+		a := b.r.Do(c)
+		if a.Err != api.ErrDead || a.Id != none || a.N != 0 {
+			t.Error(a)
+		}
+		b.no(api.ErrDead, c)
+	}
+	// that it stopped could not be told
+	b, l = rows(t, "f=abc", "f=aXc", "f=aYc")
+	cur = b.at("main")
+	b.f.Stop(5)
+	if a := b.r.Do(pick(1, l[0])); a.Err != api.ErrDead || a.Id != cur || a.N != 0 || len(a.Clashes) != 0 || b.r.State().Seq.Stopped {
+		t.Error(a)
+	}
+}
+
+// A sequence that stopped at what is left out has no clashes to resolve.
+func TestStoppedAtADrop(t *testing.T) { // P2102
+	b, l := rows(t, "f=abc", "f=aXc", "f=abc g=1")
+	book, _ := refs.Open(b.f)
+	s := api.Seq{Kind: api.SPick, Branch: "main", Orig: b.at("main"), Cur: b.at("main"), Todo: todo(2, l[0]), Stopped: true}
+	if e := book.Do(api.Tx{HasSeq: true, Seq: s}); e != api.OK {
+		t.Fatal(e)
+	}
+	b.open()
+	b.no(api.ErrArg, resolved("f=x"))
+	b.ends(resolved(""), 1)
 }

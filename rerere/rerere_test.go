@@ -47,6 +47,12 @@ func TestKey(t *testing.T) { // P1901
 			t.Errorf("Key(%s): %v, %v", s, got, e)
 		}
 	}
+	for _, n := range []int{300, 70000} {
+		long := strings.Repeat("l", n) + "\n"
+		if got, e := rerere.Key(append([]byte(long), marked("<b|a=c>")...)); e != api.OK || got != sumOf(0, long, 1, "a\n", "b\n", "c\n") {
+			t.Errorf("a line of %d bytes: %v", n, e)
+		}
+	}
 	for s, want := range map[string]api.Errno{
 		"": api.ErrNone, "abc": api.ErrNone, "<b|a=c": api.ErrMarks, "<b=a|c>": api.ErrMarks, "<b|a=c>>": api.ErrMarks, "a>": api.ErrMarks,
 	} {

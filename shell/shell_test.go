@@ -9,7 +9,10 @@ import (
 	"testing"
 
 	"selvage/api"
+	"selvage/repo"
 	"selvage/shell"
+	"selvage/simfs"
+	"selvage/sum"
 )
 
 func TestWords(t *testing.T) { // P2201
@@ -187,6 +190,9 @@ func TestCommits(t *testing.T) { // P2202: how a commit is named
 			t.Errorf("line %d", line)
 		}
 	}
+	// names that end with digits, and words that are no names
+	play(t, "init main", "ok", "file a 1", "ok", "commit me 1 one", "ok @", "file a 2", "ok", "commit me 1 two", "ok @", "branch b3 -", "ok @",
+		"show b3", `ok "a":f:"2"`, `show ""`, "none", "show $", "none", `show "b 3"`, "none", `pick ! !b3 ""`, "none", "pick !b3 !b3", "ok @ :2")
 	id := got[2][3:]
 	play(t, "init main", "ok", "file a 1", "ok", "commit me 1 one", "ok @", "show "+id, `ok "a":f:"1"`, "show "+strings.ToUpper(id), "none", "show \""+id+"\"", `ok "a":f:"1"`,
 		"show "+strings.Repeat("0", 64), "none", "branch b "+strings.Repeat("0", 63)+"1", "none")
@@ -302,6 +308,44 @@ func TestLongAnswers(t *testing.T) { // P2202
 	if got = run(append(l, "", "head")...); got[len(got)-1] != "long" {
 		t.Error(got[len(got)-1])
 	}
+}
+
+// What a command of a script makes is what the repository makes of it.
+func TestTheSameCommits(t *testing.T) { // P2202
+	got := play(t, "init main", "ok", "file f 1", "ok", `commit "an author" -5 "a text"`, "ok @", "branch b -", "ok @", "file g 2", "ok", "commit x 1 y", "ok @",
+		"switch b", "ok @", "drop g", "ok", "exec h 3", "ok", "commit z 2 w", "ok @", `merge main "who merged" 77 "why merged"`, "ok @")
+	f, _ := simfs.New(1<<30, 1<<30)
+	r, _ := repo.Open(f)
+	one, two := api.File{Path: "f", Kind: api.KFile, Data: []byte("1")}, api.File{Path: "g", Kind: api.KFile, Data: []byte("2")}
+	three := api.File{Path: "h", Kind: api.KExec, Data: []byte("3")}
+	for _, x := range []struct {
+		line int
+		c    api.Cmd
+	}{
+		{1, api.Cmd{Kind: api.CInit, Name: "main"}},
+		{3, api.Cmd{Kind: api.CCommit, Author: "an author", Time: -5, Text: "a text", Files: []api.File{one}}},
+		{4, api.Cmd{Kind: api.CBranch, Name: "b"}},
+		{6, api.Cmd{Kind: api.CCommit, Author: "x", Time: 1, Text: "y", Files: []api.File{one, two}}},
+		{7, api.Cmd{Kind: api.CSwitch, Name: "b"}},
+		{10, api.Cmd{Kind: api.CCommit, Author: "z", Time: 2, Text: "w", Files: []api.File{one, three}}},
+		{11, api.Cmd{Kind: api.CMerge, Name: "main", Author: "who merged", Time: 77, Text: "why merged"}},
+	} {
+		want := "ok"
+		if a := r.Do(x.c); a.Id != (api.Id{}) {
+			want = "ok " + sum.Hex(a.Id)
+		}
+		if got[x.line-1] != want {
+			t.Errorf("line %d: %s, not %s", x.line, got[x.line-1], want)
+		}
+	}
+}
+
+// A sequence may be in progress without having stopped: a step failed for another reason than a clash.
+func TestAStepThatFails(t *testing.T) { // P2202
+	n := strings.Repeat("n", 40)
+	play(t, "init main", "ok", "commit me 1 empty", "ok @", "branch b -", "ok @", "file "+n+"/x 1", "ok", "commit me 2 dir", "ok @", "switch b", "ok @",
+		"drop "+n+"/x", "ok", "file "+n+" 2", "ok", "commit me 3 file", "ok @", "pick main", "name", "seq", "pick 0/1", "continue", "name", "pick main", "busy",
+		"skip", "ok @ :1", "seq", "idle", "show $10", "none")
 }
 
 // TestLawsOfScripts plays beginnings of random scripts.

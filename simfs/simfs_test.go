@@ -216,6 +216,8 @@ func TestOpsAndStop(t *testing.T) { // P202, P205
 	}
 	f.Stop(0)
 	want(t, "behind Stop(0)", f.Sync("a"), api.ErrDead)
+	f.Stop(3)
+	want(t, "behind Stop(3)", f.Sync("a"), api.ErrDead)
 	if f.Ops() != 8 {
 		t.Error("Ops:", f.Ops())
 	}
@@ -268,6 +270,17 @@ func TestTheExample(t *testing.T) { // P206
 	all(t, f.Write("a/x", []byte("ab")), f.SyncDir("a"))
 	f.Crash(-1)
 	holds(t, f, "a/x", "a\x00")
+	f = disk(t)
+	all(t, f.Write("a/x", []byte("ab")), f.SyncDir("a"))
+	f.Crash(-12)
+	holds(t, f, "a/x", "\x00\x00")
+}
+
+func TestCrashLeavesWhatStayed(t *testing.T) { // P206: the first pick is the bytes that stayed
+	f := disk(t)
+	all(t, f.Write("x", []byte("old")), f.Sync("x"), f.SyncDir(""), f.Write("x", []byte("new")))
+	f.Crash(0)
+	holds(t, f, "x", "old")
 }
 
 func TestCrashOfRowsOfWrites(t *testing.T) { // P206

@@ -258,6 +258,16 @@ func TestKeep(t *testing.T) { // P803
 	}
 }
 
+// What a new pack has is known before it is asked for one object.
+func TestAllBehindKeep(t *testing.T) { // P802
+	s := open(t, disk())
+	put(t, s, a, b)
+	keep(t, s, 0, a, b)
+	if l, e := s.All(); e != api.OK || !slices.Equal(l, ids(a, b)) {
+		t.Error(l, e)
+	}
+}
+
 func TestKeepRefuses(t *testing.T) { // P803, P5
 	f := disk()
 	s := open(t, f)
@@ -413,8 +423,8 @@ func TestCrashes(t *testing.T) { // P804
 			for pick := range 40 {
 				f, s = start()
 				f.Stop(stop)
-				if _, e := s.Keep(ids(l...)...); e != api.ErrDead {
-					t.Fatal(e)
+				if n, e := s.Keep(ids(l...)...); e != api.ErrDead || n != 0 {
+					t.Fatal(n, e)
 				}
 				f.Crash(pick%4, pick/4, pick%3, pick%2, pick*31)
 				s = open(t, f)

@@ -87,14 +87,15 @@ func (h *Hash) mix(blocks []byte) {
 }
 
 func (h *Hash) rounds(w, round *[64]uint32) {
-	s := h.state
+	s := &h.state
+	a, b, c, d, e, f, g, i := s[0], s[1], s[2], s[3], s[4], s[5], s[6], s[7]
 	for t := range w {
-		t1 := s[7] + big(s[4], 6, 11, 25) + (s[4]&s[5] ^ ^s[4]&s[6]) + round[t] + w[t]
-		t2 := big(s[0], 2, 13, 22) + (s[0]&s[1] ^ s[0]&s[2] ^ s[1]&s[2])
-		s = [8]uint32{t1 + t2, s[0], s[1], s[2], s[3] + t1, s[4], s[5], s[6]}
+		t1 := i + big(e, 6, 11, 25) + (e&f ^ ^e&g) + round[t] + w[t]
+		t2 := big(a, 2, 13, 22) + (a&b ^ a&c ^ b&c)
+		a, b, c, d, e, f, g, i = t1+t2, a, b, c, d+t1, e, f, g
 	}
-	for k := range s {
-		h.state[k] += s[k]
+	for k, x := range [8]uint32{a, b, c, d, e, f, g, i} {
+		s[k] += x
 	}
 }
 

@@ -366,12 +366,13 @@ func TestNothingIsShared(t *testing.T) { // P2
 	for _, x := range o {
 		clear(append(x.Body, "!!!!"...))
 	}
-	d := tree.Diff(l, files("c"))
+	m := files("c")
+	d := tree.Diff(l, m)
 	for _, c := range d {
 		clear(c.Old.Data)
 		clear(c.New.Data)
 	}
-	if string(l[0].Data) != "x" || string(l[1].Data) != "x" {
+	if string(l[0].Data) != "x" || string(l[1].Data) != "x" || string(m[0].Data) != "x" {
 		t.Error("memory is shared")
 	}
 }

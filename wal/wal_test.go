@@ -35,9 +35,12 @@ func rows(l ...string) [][]byte {
 func told(l [][]byte) string { return fmt.Sprintf("%q", l) }
 
 func TestEncode(t *testing.T) { // P301
-	for _, l := range [][]string{nil, {""}, {"a"}, {"a", "a", "", strings.Repeat("x", 70000)}} {
+	for _, l := range [][]string{nil, {""}, {"a"}, {strings.Repeat("y", 300)}, {"a", "a", "", strings.Repeat("x", 70000)}} {
 		if !bytes.Equal(wal.Encode(rows(l...)...), plain(l...)) {
 			t.Errorf("%d records", len(l))
+		}
+		if got, at, e := wal.Parse(plain(l...)); e != api.OK || at != len(plain(l...)) || told(got) != told(rows(l...)) {
+			t.Errorf("%d records: parsed: %v", len(l), e)
 		}
 	}
 	b := wal.Encode([]byte("a"))
@@ -173,6 +176,10 @@ func TestOpenRefuses(t *testing.T) { // P302
 		}
 	}
 	open(t, f, strings.Repeat("a", 96))
+	ok(t, f.Write(strings.Repeat("b", 97), plain()))
+	if l, _, e := wal.Open(f, strings.Repeat("b", 97)); l != nil || e != api.ErrName {
+		t.Error("a journal beside which there is no place:", e)
+	}
 	for _, bad := range []string{"", "SLVGWAL", "SLVGWAL2", "xSLVGWAL1"} {
 		ok(t, f.Write("j", []byte(bad)))
 		if l, r, e := wal.Open(f, "j"); l != nil || r != nil || e != api.ErrBad {
@@ -230,6 +237,9 @@ func TestAppendRefuses(t *testing.T) { // P303
 	if e := l.Checkpoint([]byte("a"), make([]byte, api.MaxRecord+1)); e != api.ErrLong || l.Count() != 1 {
 		t.Error("a record that is too long:", e)
 	}
+	if e := l.Checkpoint(make([]byte, api.MaxRecord)); e != api.OK || l.Count() != 1 {
+		t.Error("the longest record:", e)
+	}
 }
 
 func TestAppendWithoutRoom(t *testing.T) { // P303
@@ -241,6 +251,7 @@ func TestAppendWithoutRoom(t *testing.T) { // P303
 			e = l.Append(bytes.Repeat([]byte("b"), 20))
 		}
 		if e == api.OK {
+			open(t, f, "j", "a", strings.Repeat("b", 20))
 			continue
 		}
 		if e != api.ErrLong && e != api.ErrFull {
@@ -337,6 +348,20 @@ func TestGoingOnBehindACrash(t *testing.T) { // P303
 				t.Fatal(e)
 			}
 			f.Crash(pick)
+			ok(t, l.Append([]byte("c")))
+			open(t, f, "j", "a", "c")
+		}
+	}
+	for stop := 1; stop <= 4; stop++ {
+		for pick := range 3 {
+			f := disk(1 << 20)
+			l := open(t, f, "j")
+			ok(t, l.Append([]byte("a")))
+			f.Stop(stop)
+			if e := l.Checkpoint([]byte("x"), []byte("y")); e != api.ErrDead || l.Count() != 1 {
+				t.Fatal(e)
+			}
+			f.Crash(pick, pick)
 			ok(t, l.Append([]byte("c")))
 			open(t, f, "j", "a", "c")
 		}
