@@ -95,15 +95,19 @@ func best(a, b string) (int, string) {
 
 func TestDiffAgainstAllScripts(t *testing.T) { // P1202, P1204
 	r := rand.New(rand.NewSource(13))
-	for range 2000 {
-		row := func() string {
-			b := make([]byte, r.Intn(7))
+	for n := range 4000 {
+		row := func(most int) string {
+			b := make([]byte, r.Intn(most))
 			for k := range b {
-				b[k] = "abc"[r.Intn(3)]
+				b[k] = "abc"[r.Intn(2+n%2)]
 			}
 			return string(b)
 		}
-		a, b := row(), row()
+		a, b := row(7), row(7)
+		if n%4 > 1 { // with ends that they have in common
+			begin, end := row(3), row(4)
+			a, b = begin+row(4)+end, begin+row(4)+end
+		}
 		al, bl := strings.Split(a, "")[:len(a)], strings.Split(b, "")[:len(b)]
 		got, e := lines.Diff(al, bl)
 		steps := ""
