@@ -191,7 +191,7 @@ func TestParseRefuses(t *testing.T) { // P1302
 }
 
 func TestApply(t *testing.T) { // P1303
-	a := letters("abcdef")
+	a := slices.Clip(letters("abcdef"))
 	hunk := func(atA, atB int, s string) api.Hunk {
 		var h api.Hunk
 		h.AtA, h.AtB = atA, atB

@@ -43,6 +43,19 @@ func TestOfAllLengths(t *testing.T) { // P101
 	}
 }
 
+// So many bytes that their bits are counted in more than 32 bits.
+func TestManyBytes(t *testing.T) { // P101, P102
+	h, want := sum.New(), sha256.New()
+	b := make([]byte, 1<<23+1)
+	for range 1 << 6 {
+		h.Write(b)
+		want.Write(b)
+	}
+	if got := h.Sum(); !bytes.Equal(got[:], want.Sum(nil)) {
+		t.Error("beyond 2^32 bits the sum is another one")
+	}
+}
+
 func TestHashInPieces(t *testing.T) { // P102, P103
 	r := rand.New(rand.NewSource(2))
 	for range 300 {
